@@ -1,0 +1,1 @@
+"""Meetrow: folk hand in hand, who each beat go where three ways meet."""

@@ -1,0 +1,39 @@
+"""The names, arguments and places that the document's interface lists."""
+
+import importlib
+import inspect
+import unittest
+
+FUNCTIONS = {
+    "bans": ["are_bans(many, thing)", "led(many, bans, side)", "road(many, bans, side, other)", "nothing(many, bans)",
+             "is_nothing(many, bans, thing)"],
+    "plain": ["plain(many, bans)"],
+}
+CLASSES = {
+    "towns": {"Town": ["__init__(self, many, bans)", "bans(self)", "is_spot(self, thing)", "follows(self, side)",
+                       "spots(self)", "spot_on(self, sides)", "clash(self, sides)", "__eq__(self, other)",
+                       "__len__(self)", "__str__(self)"]},
+}
+
+
+class Interface(unittest.TestCase):
+    def test_functions(self):
+        for file, told in FUNCTIONS.items():
+            module = importlib.import_module("meetrow." + file)
+            for row in told:
+                with self.subTest(row):
+                    made = vars(module)[row.split("(")[0]]
+                    self.assertTrue(inspect.isfunction(made))
+                    self.assertEqual(made.__module__, "meetrow." + file)
+                    self.assertEqual(made.__name__ + str(inspect.signature(made)), row)
+
+    def test_classes(self):
+        for file, told in CLASSES.items():
+            module = importlib.import_module("meetrow." + file)
+            for name, methods in told.items():
+                made = vars(module)[name]
+                self.assertEqual(made.__module__, "meetrow." + file)
+                for row in methods:
+                    with self.subTest(row):
+                        method = vars(made)[row.split("(")[0]]
+                        self.assertEqual(method.__name__ + str(inspect.signature(method)), row)
