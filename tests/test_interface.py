@@ -8,6 +8,12 @@ FUNCTIONS = {
     "bans": ["are_bans(many, thing)", "led(many, bans, side)", "road(many, bans, side, other)", "nothing(many, bans)",
              "is_nothing(many, bans, thing)"],
     "plain": ["plain(many, bans)"],
+    "ways": ["apart(one, other)", "is_between(one, middle, other)", "meet(one, two, three)", "streets_at(town, spot)",
+             "way(town, one, other)"],
+    "words": ["is_word(thing)", "show_word(word)", "read_word(text)", "told_by(word, spots)", "parting(word, other)"],
+    "quarters": ["quarter(town, sides)", "hull(town, spots)", "gate(town, spot, sides)", "parted(town, sides, other)",
+                 "wish_spot(town, wishes)", "wish_clash(town, wishes)"],
+    "crowds": ["crowd_sum(crowd, spot)", "fair(town, crowd, *, within=())"],
 }
 CLASSES = {
     "towns": {"Town": ["__init__(self, many, bans)", "bans(self)", "is_spot(self, thing)", "follows(self, side)",
