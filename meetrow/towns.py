@@ -73,12 +73,16 @@ class Town:
 
     def spots(self):
         """All spots, rising; refused with TooMany where they are more than 500."""
+        return self.spots_up_to(MOST_SPOTS)
+
+    def spots_up_to(self, most):
+        """All spots, rising; refused with TooMany where they are more than so many."""
         found = [((), 0)]
         for cut in self._cuts:
             # Each beginning that breaks no ban goes on to a spot, so there never are more of them than spots.
             found = self._grown(found, cut)
-            if len(found) > MOST_SPOTS:
-                raise TooMany(MOST_SPOTS)
+            if len(found) > most:
+                raise TooMany(most)
         return [spot for spot, _ in found]
 
     def _grown(self, found, cut):

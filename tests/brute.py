@@ -93,3 +93,71 @@ def plain_towns(seed, count=150, cuts=5, most=7):
         if found == count:
             return
     raise AssertionError("too few towns")
+
+
+def beside(stand, folk, ring):
+    """The numbers of the one before and the one behind a folk, None where none is."""
+    last = len(stand) - 1
+    before = folk - 1 if folk > 0 else (last if ring else None)
+    behind = folk + 1 if folk < last else (0 if ring else None)
+    return before, behind
+
+
+def beat(stand, ring):
+    """Where all go at one beat: of each cut to the side that most of three have."""
+    gone = []
+    for folk, spot in enumerate(stand):
+        before, behind = beside(stand, folk, ring)
+        if before is None or behind is None:
+            gone.append(spot)
+            continue
+        three = zip(stand[before], spot, stand[behind])
+        gone.append(tuple(one if one in (here, other) else here for one, here, other in three))
+    return gone
+
+
+def beats(stand, many, ring):
+    """The stands behind 0, 1, 2 .. so many beats, beat by beat."""
+    stands = [list(stand)]
+    for _ in range(many):
+        stands.append(beat(stands[-1], ring))
+    return stands
+
+
+def held(stand, cut, ring):
+    found = []
+    for folk, spot in enumerate(stand):
+        near = beside(stand, folk, ring)
+        if None in near or spot[cut - 1] in [stand[other][cut - 1] for other in near]:
+            found.append(folk)
+    return found
+
+
+def stands(seed, count=300, most=8):
+    """Tuples (town, all its spots, stand, ring), rows and rings, many of them with folk that swing for long."""
+    chance = random.Random(seed)
+    towns = list(plain_towns(seed + 1, 40, 4))
+    for _ in range(count):
+        town, spots = chance.choice(towns)
+        ring = chance.random() < 0.5
+        folk = chance.randint(3 if ring else 1, most)
+        stand = [chance.choice(spots) for _ in range(folk)]
+        if chance.random() < 0.5:
+            one, other = chance.choice(spots), chance.choice(spots)
+            stand = [(one, other)[at & 1] for at in range(folk)]
+            if chance.random() < 0.5:
+                stand[chance.randrange(folk)] = chance.choice(spots)
+        yield town, spots, stand, ring
+
+
+def long_stands():
+    """Pairs (stand, ring) of long rows and rings, to sixty folk, in towns of three cuts and of sixty."""
+    chance = random.Random(77)
+    for folk, many in ((29, 3), (30, 3), (59, 60), (60, 2), (60, 60)):
+        for ring in (False, True):
+            swing = [tuple(cut if at & 1 else -cut for cut in range(1, many + 1)) for at in range(folk)]
+            yield swing, ring
+            mixed = list(swing)
+            at = chance.randrange(folk)
+            mixed[at] = tuple(side if side & 1 else -side for side in mixed[at])
+            yield mixed, ring

@@ -14,6 +14,14 @@ FUNCTIONS = {
     "quarters": ["quarter(town, sides)", "hull(town, spots)", "gate(town, spot, sides)", "parted(town, sides, other)",
                  "wish_spot(town, wishes)", "wish_clash(town, wishes)"],
     "crowds": ["crowd_sum(crowd, spot)", "fair(town, crowd, *, within=())"],
+    "beats": ["beat(stand, *, ring=False)", "behind(stand, beats, *, ring=False)", "held(stand, cut, *, ring=False)",
+              "rest(stand, *, ring=False)", "first_at(stand, folk, spot, *, ring=False)",
+              "first_meet(stand, one, other, *, ring=False)"],
+    "papers": ["paper(town, stand, folk, beats, *, ring=False)",
+               "is_paper(town, stand, folk, beats, spot, thing, *, ring=False)"],
+    "rests": ["is_at_rest(stand, *, ring=False)", "rests(town, folk, *, ring=False)",
+              "rest_at(town, folk, number, *, ring=False)"],
+    "befores": ["befores(town, stand, *, ring=False)", "before_at(town, stand, number, *, ring=False)"],
 }
 CLASSES = {
     "towns": {"Town": ["__init__(self, many, bans)", "bans(self)", "is_spot(self, thing)", "follows(self, side)",

@@ -215,6 +215,17 @@ class Code(unittest.TestCase):
                 exponent = node.right if isinstance(node, ast.BinOp) else node.value
                 self.assertIsInstance(exponent, ast.Constant, where)
 
+    def test_stars_in_calls_stand_ahead_of_names(self):
+        for where, node in nodes(ast.Call):
+            for part in node.args:
+                if isinstance(part, ast.Starred):
+                    self.assertIsInstance(part.value, (ast.Name, ast.Attribute, ast.List, ast.Tuple), where)
+
+    def test_what_is_left_over_is_of_what_surely_is_a_number(self):
+        for where, node in nodes(ast.BinOp):
+            if isinstance(node.op, ast.Mod):
+                self.assertTrue(is_call_of(node.left, "int", "len", "sum", "abs", "ord"), where)
+
     def test_no_method_is_an_attribute_of_its_class_and_all_attributes_are_free(self):
         barred = {name for kind in (str, int, list, dict, set, bytes) for name in dir(kind)}
         for where, node in nodes(ast.ClassDef):
