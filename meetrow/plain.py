@@ -43,3 +43,14 @@ def _plain_bans(leads, kept):
         for other in sides
         if abs(one) < abs(other) and leads[elder[one]] & bit(-elder[other])
     ]
+
+
+def bans_of(many, spots):
+    """The bans, in plain form, of the town that has just these spots."""
+    sides = all_sides(many)
+    # For each side a number with a bit for each spot that is on it.
+    on = {side: 0 for side in sides}
+    for number, spot in enumerate(spots):
+        for side in spot:
+            on[side] |= 1 << number
+    return [(one, other) for one in sides for other in sides if abs(one) < abs(other) and not on[one] & on[other]]

@@ -16,6 +16,11 @@ def all_sides(many):
     return [side for cut in range(1, many + 1) for side in (cut, -cut)]
 
 
+def side_of(cut, is_number):
+    """The side of a cut that is its number, or its other one."""
+    return cut if is_number else -cut
+
+
 def place(side):
     """The number, from 0, of a side among all sides as they rise."""
     return 2 * abs(side) - (2 if side > 0 else 1)

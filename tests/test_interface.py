@@ -21,6 +21,10 @@ FUNCTIONS = {
                "is_paper(town, stand, folk, beats, spot, thing, *, ring=False)"],
     "rests": ["is_at_rest(stand, *, ring=False)", "rests(town, folk, *, ring=False)",
               "rest_at(town, folk, number, *, ring=False)"],
+    "webs": ["town_of_web(many, streets)", "web_of(town)"],
+    "books": ["book_of(town, spot)", "is_book(many, thing)", "town_of_book(book)"],
+    "cubes": ["cubes(town)"],
+    "makers": ["tree(elders)", "floor(wide, high)", "product(town, other)", "joined(town, spot, other, other_spot)"],
     "befores": ["befores(town, stand, *, ring=False)", "before_at(town, stand, number, *, ring=False)"],
 }
 CLASSES = {
