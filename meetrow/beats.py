@@ -1,106 +1,60 @@
 """Beats: where each of a row or ring goes, all at once, and where each stands behind any number of beats."""
 
+from meetrow.courses import course_of, courses_of, cut_bit, frees_of, threes
 from meetrow.ways import meet
 
 
 def beat(stand, *, ring=False):
     """The stand behind one beat."""
-    return [meet(before, here, after) for before, here, after in _threes(stand, ring)]
-
-
-def _threes(things, ring):
-    """What each folk has: that of the one before, its own, that of the one behind."""
-    # An end of a row is its own neighbour here: so the rule for all tells that it stays, and that it is held.
-    first, last = (things[-1], things[0]) if ring else (things[0], things[-1])
-    return list(zip([first, *things[:-1]], things, [*things[1:], last]))
-
-
-def held(stand, cut, *, ring=False):
-    """The folk that are held at the cut, rising."""
-    return [folk for folk, is_held in enumerate(_marks(stand, cut, ring)) if is_held]
-
-
-def _marks(stand, cut, ring):
-    """Of each folk whether it is held at the cut."""
-    sides = [spot[cut - 1] for spot in stand]
-    return [side in (before, after) for before, side, after in _threes(sides, ring)]
-
-
-def gaps(stand, cut, ring):
-    """How many folk before each, and how many behind each, the nearest one is that is held at the cut.
-
-    As many as there are folk where there is none: no one stands so many folk away.
-    """
-    marks = _marks(stand, cut, ring)
-    return _gaps_before(marks, ring), _gaps_before(marks[::-1], ring)[::-1]
-
-
-def _gaps_before(marks, ring):
-    many = len(marks)
-    found = []
-    gap = many
-    # Round a ring twice: only then those that stand last are known to stand before the first.
-    for is_held in marks * (2 if ring else 1):
-        gap = 0 if is_held else min(gap + 1, many)
-        found.append(gap)
-    return found[-many:]
-
-
-def _columns(stand, ring):
-    """For each cut how many folk away from each the nearest is that is held at it, or None where none is held."""
-    return [_column(stand, cut, ring) for cut in range(1, len(stand[0]) + 1)]
-
-
-def _column(stand, cut, ring):
-    fores, rears = gaps(stand, cut, ring)
-    column = [min(fore, rear) for fore, rear in zip(fores, rears)]
-    return None if column[0] == len(stand) else column
+    return [meet(before, here, after) for before, here, after in threes(stand, ring)]
 
 
 def behind(stand, beats, *, ring=False):
     """The stand behind so many beats."""
-    columns = _columns(stand, ring)
-    return [_gone(stand, folk, columns, beats) for folk in range(len(stand))]
+    return [course.spot_behind(beats) for course in courses_of(stand, ring)]
 
 
-def _gone(stand, folk, columns, beats):
-    """Where a folk stands behind so many beats."""
-    return tuple([_side_behind(side, folk, column, beats) for side, column in zip(stand[folk], columns)])
-
-
-def _side_behind(side, folk, column, beats):
-    turns = beats if column is None else min(beats, column[folk])
-    return -side if turns & 1 else side
+def held(stand, cut, *, ring=False):
+    """The folk that are held at the cut, rising."""
+    return [folk for folk, free in enumerate(frees_of(stand, ring)) if not free & cut_bit(cut)]
 
 
 def rest(stand, *, ring=False):
     """The beat from which on only the cuts change at which none is held, and those cuts, rising."""
-    columns = _columns(stand, ring)
-    return _last_turn(columns), [cut for cut, column in enumerate(columns, start=1) if column is None]
+    return rest_of(courses_of(stand, ring))
 
 
-def _last_turn(columns):
-    """The first beat from which on no cut changes at which one is held."""
-    return max([away for column in columns if column is not None for away in column], default=0)
+def rest_of(courses):
+    """The beat from which on only the cuts change at which none is held, and those cuts, by the courses of all."""
+    first = courses[0]
+    cuts = [cut for cut in range(1, len(first.spot) + 1) if first.loose & cut_bit(cut)]
+    return max([course.last_turn() for course in courses]), cuts
 
 
 def first_at(stand, folk, spot, *, ring=False):
     """The first beat, from 0, behind which the folk stands at the spot, or None."""
-    for beats, here in enumerate(_course(stand, folk, ring)):
-        if here == spot:
+    return first_there(course_of(stand, frees_of(stand, ring), folk, ring), spot)
+
+
+def first_there(course, spot):
+    """The first beat, from 0, behind which a folk, by its course, stands at the spot, or None."""
+    # Behind the last turn all comes again by two beats.
+    for beats in range(course.last_turn() + 2):
+        if course.spot_behind(beats) == spot:
             return beats
     return None
 
 
 def first_meet(stand, one, other, *, ring=False):
     """The first beat, from 0, behind which the two folk stand at one spot, or None."""
-    for beats, (here, there) in enumerate(zip(_course(stand, one, ring), _course(stand, other, ring))):
-        if here == there:
+    courses = courses_of(stand, ring)
+    return first_same([courses[one]], [courses[other]])
+
+
+def first_same(courses, others):
+    """The first beat, from 0, behind which all of some courses are where the others are, or None."""
+    last = max([course.last_turn() for course in courses + others])
+    for beats in range(last + 2):
+        if all([one.number_behind(beats) == other.number_behind(beats) for one, other in zip(courses, others)]):
             return beats
     return None
-
-
-def _course(stand, folk, ring):
-    """Where the folk stands behind 0, 1, 2 .. beats, until all comes again by two beats."""
-    columns = _columns(stand, ring)
-    return [_gone(stand, folk, columns, beats) for beats in range(_last_turn(columns) + 2)]

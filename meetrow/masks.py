@@ -25,6 +25,16 @@ def sides_in(mask):
     return [side for cut in cuts for side in (cut, -cut) if mask & bit(side)]
 
 
+def number_of(spot):
+    """A spot as a whole number, with a bit for each cut of which it has the number's side."""
+    return sum([1 << at for at, side in enumerate(spot) if side > 0])
+
+
+def majority(one, two, three):
+    """The bits that two or three of the numbers have: of spots as numbers, where they meet."""
+    return one & two | two & three | one & three
+
+
 def closure(many, bans):
     """For each side the mask of all sides to which it leads, itself too."""
     sides = all_sides(many)

@@ -1,28 +1,28 @@
 """Papers: what shows, by the folk near by and without going there, where a folk stands behind so many beats."""
 
-from meetrow.beats import behind, gaps
+from meetrow.courses import course_of, cut_bit, free_at, frees_of
 from meetrow.sides import is_whole
 from meetrow.ways import streets_at
 
 
 def paper(town, stand, folk, beats, *, ring=False):
     """The paper of a folk behind so many beats."""
-    spot = behind(stand, beats, ring=ring)[folk]
-    return tuple([_entry(stand, folk, beats, cut, ring) for cut in streets_at(town, spot)])
+    frees = frees_of(stand, ring)
+    course = course_of(stand, frees, folk, ring)
+    cuts = streets_at(town, course.spot_behind(beats))
+    return tuple([(cut, *_word(frees, folk, course.away(cut), beats, cut, ring)) for cut in cuts])
 
 
-def _gaps_of(stand, folk, cut, ring):
-    """How many folk before and how many behind this one the nearest is that is held at the cut."""
-    fores, rears = gaps(stand, cut, ring)
-    return fores[folk], rears[folk]
+def _word(frees, folk, away, beats, cut, ring):
+    """The word and the step that show the side of a cut."""
+    if away is None or away > beats:
+        return ("turns", 0)
+    return ("before" if _is_held(frees, folk - away, cut, ring) else "behind", away)
 
 
-def _entry(stand, folk, beats, cut, ring):
-    fore, rear = _gaps_of(stand, folk, cut, ring)
-    step = min(fore, rear)
-    if step > beats or step == len(stand):
-        return (cut, "turns", 0)
-    return (cut, "before" if fore == step else "behind", step)
+def _is_held(frees, place, cut, ring):
+    """Whether one stands at a place and is held at the cut."""
+    return not free_at(frees, place, ring) & cut_bit(cut)
 
 
 def is_paper(town, stand, folk, beats, spot, thing, *, ring=False):
@@ -30,8 +30,15 @@ def is_paper(town, stand, folk, beats, spot, thing, *, ring=False):
     cuts = streets_at(town, spot)
     if not isinstance(thing, tuple) or len(thing) != len(cuts):
         return False
+    frees = frees_of(stand, ring)
+    course = course_of(stand, frees, folk, ring)
     for cut, entry in zip(cuts, thing):
-        if not _is_entry(cut, entry) or _shown(stand, folk, beats, entry, ring) != spot[cut - 1]:
+        if not _is_entry(cut, entry):
+            return False
+        _, word, step = entry
+        if not _is_so(frees, folk, course.away(cut), beats, entry, ring):
+            return False
+        if _shown(stand, folk, beats, entry) != spot[cut - 1]:
             return False
     return True
 
@@ -44,20 +51,23 @@ def _is_entry(cut, thing):
     return is_whole(told) and told == cut and is_whole(step)
 
 
-def _shown(stand, folk, beats, entry, ring):
-    """The side that an entry shows, or None where it isn't so."""
+def _is_so(frees, folk, away, beats, entry, ring):
+    """Whether an entry tells what is so, the nearest that is held being so far away."""
     cut, word, step = entry
-    fore, rear = _gaps_of(stand, folk, cut, ring)
-    nearest = min(fore, rear)
-    none_held = nearest == len(stand)
+    if word == "turns":
+        return step == 0 and (away is None or away >= beats)
+    if away is None or step != away or step > beats:
+        return False
+    if word == "before":
+        return _is_held(frees, folk - step, cut, ring)
+    return word == "behind" and _is_held(frees, folk + step, cut, ring)
+
+
+def _shown(stand, folk, beats, entry):
+    """The side that an entry shows that is so."""
+    cut, word, step = entry
     if word == "turns":
         own = stand[folk][cut - 1]
-        is_so = step == 0 and (none_held or nearest >= beats)
-        return (-own if beats & 1 else own) if is_so else None
-    if none_held or step != nearest or step > beats:
-        return None
-    if word == "before" and fore == step:
-        return stand[folk - step][cut - 1]
-    if word == "behind" and rear == step:
-        return stand[int(folk + step) % len(stand)][cut - 1]
-    return None
+        return -own if beats & 1 else own
+    place = folk - step if word == "before" else folk + step
+    return stand[int(place) % len(stand)][cut - 1]

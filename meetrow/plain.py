@@ -1,4 +1,7 @@
-"""The plain form of bans: no cut one-sided, no two cuts alike, and each ban that holds told."""
+"""The plain form of bans: no cut one-sided, no two cuts alike, and each ban that holds told.
+
+All of it hangs on what each side leads to, a mask for each: of bans by their roads, of spots by those that are on it.
+"""
 
 from meetrow.masks import bit, closure
 from meetrow.sides import all_sides
@@ -6,51 +9,67 @@ from meetrow.sides import all_sides
 
 def plain(many, bans):
     """The plain form (many, bans, table) of bans, or None where nothing is let."""
-    leads = closure(many, bans)
+    return form_of(many, closure(many, bans))
+
+
+def form_of(many, leads):
+    """The plain form by what each side leads to, or None where nothing is let."""
+    told = table_of(many, leads)
+    if told is None:
+        return None
+    kept, table = told
+    return (len(kept), bans_led(leads, kept), tuple(table))
+
+
+def table_of(many, leads):
+    """The cuts that are kept and an entry for each cut, or None where nothing is let."""
     kept = []
     table = []
+    # Two sides lead to each other just where they lead to the same ones.
+    entries = {}
     for cut in range(1, many + 1):
         falls = bool(leads[cut] & bit(-cut))
         rises = bool(leads[-cut] & bit(cut))
         if falls and rises:
             return None
-        if falls or rises:
-            table.append(rises)
-            continue
-        side = _new_side(leads, kept, cut)
-        if side > len(kept):
+        if not falls and not rises and leads[cut] not in entries:
             kept.append(cut)
-        table.append(side)
-    return (len(kept), _plain_bans(leads, kept), tuple(table))
+            entries[leads[cut]] = len(kept)
+            entries[leads[-cut]] = -len(kept)
+        table.append(rises if falls or rises else entries[leads[cut]])
+    return kept, table
 
 
-def _new_side(leads, kept, cut):
-    """The new side for a cut: of the kept cut that it is alike with, else of a cut that is new."""
-    for number, least in enumerate(kept, start=1):
-        for elder, side in ((least, number), (-least, -number)):
-            if leads[cut] & bit(elder) and leads[elder] & bit(cut):
-                return side
-    return len(kept) + 1
-
-
-def _plain_bans(leads, kept):
-    """All bans of two new sides that no let setting has both, rising."""
-    sides = all_sides(len(kept))
-    elder = {side: kept[abs(side) - 1] * (1 if side > 0 else -1) for side in sides}
+def bans_led(leads, kept):
+    """All bans of two sides of the kept cuts, numbered anew, that no let setting has both, rising."""
+    pairs = [pair for new, cut in enumerate(kept, start=1) for pair in ((new, cut), (-new, -cut))]
+    strikes = [(new, bit(-elder)) for new, elder in pairs]
     return [
         (one, other)
-        for one in sides
-        for other in sides
-        if abs(one) < abs(other) and leads[elder[one]] & bit(-elder[other])
+        for at, (one, elder) in enumerate(pairs)
+        for other, strike in strikes[at // 2 * 2 + 2 :]
+        if leads[elder] & strike
     ]
 
 
 def bans_of(many, spots):
     """The bans, in plain form, of the town that has just these spots."""
+    return bans_led(leads_on(many, spots), list(range(1, many + 1)))
+
+
+def leads_on(many, spots):
+    """For each side the mask of all sides on which all of the spots are that are on it."""
+    on = _spots_on(many, spots)
     sides = all_sides(many)
-    # For each side a number with a bit for each spot that is on it.
-    on = {side: 0 for side in sides}
-    for number, spot in enumerate(spots):
-        for side in spot:
-            on[side] |= 1 << number
-    return [(one, other) for one in sides for other in sides if abs(one) < abs(other) and not on[one] & on[other]]
+    # The highest bit is written first.
+    strikes = [on[-side] for side in sides][::-1]
+    return {side: int("".join(["0" if on[side] & strike else "1" for strike in strikes]), 2) for side in sides}
+
+
+def _spots_on(many, spots):
+    """For each side a number with a bit for each of the spots that is on it."""
+    on = {}
+    for cut in range(1, many + 1):
+        on[cut] = int("".join(["1" if spot[cut - 1] > 0 else "0" for spot in spots]), 2)
+        on[-cut] = (1 << len(spots)) - 1 - on[cut]
+    return on

@@ -55,3 +55,8 @@ def wish_clash(town, wishes):
                 return (number, first[-side], side)
             first.setdefault(side, number)
     return None
+
+
+def has_sides(spot, sides):
+    """Whether a spot is in the quarter of these sides."""
+    return all([spot[abs(side) - 1] == side for side in sides])

@@ -71,6 +71,10 @@ class Town:
         """The sides that follow from any of these, rising."""
         return sides_in(self._following(sides))
 
+    def is_barred(self, one, other):
+        """Whether no spot has both sides."""
+        return bool(self._leads[one] & bit(-other))
+
     def spots(self):
         """All spots, rising; refused with TooMany where they are more than 500."""
         return self.spots_up_to(MOST_SPOTS)

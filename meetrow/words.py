@@ -1,6 +1,7 @@
 """Words of meeting: names, and meetings of three words."""
 
 from meetrow.errors import NoText
+from meetrow.masks import majority
 from meetrow.ways import meet
 
 MOST_MEETS = 40
@@ -115,4 +116,4 @@ def _mask_told(word, masks):
     if isinstance(word, str):
         return masks[word]
     one, two, three = [_mask_told(part, masks) for part in word[1:]]
-    return one & two | two & three | one & three
+    return majority(one, two, three)

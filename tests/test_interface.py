@@ -25,12 +25,24 @@ FUNCTIONS = {
     "books": ["book_of(town, spot)", "is_book(many, thing)", "town_of_book(book)"],
     "cubes": ["cubes(town)"],
     "makers": ["tree(elders)", "floor(wide, high)", "product(town, other)", "joined(town, spot, other, other_spot)"],
+    "maps": ["led_by(table, spot)", "is_map(town, goal, table)", "map_of(town, goal, spots)"],
+    "settings": ["closed(many, settings)", "plain_of(many, settings)", "unclosed(settings)"],
+    "tallies": ["walked(stand, folk, beats, *, ring=False)", "comings(stand, folk, sides, beats, *, ring=False)",
+                "alike_from(stand, other, *, ring=False)"],
     "befores": ["befores(town, stand, *, ring=False)", "before_at(town, stand, number, *, ring=False)"],
 }
 CLASSES = {
     "towns": {"Town": ["__init__(self, many, bans)", "bans(self)", "is_spot(self, thing)", "follows(self, side)",
                        "spots(self)", "spot_on(self, sides)", "clash(self, sides)", "__eq__(self, other)",
                        "__len__(self)", "__str__(self)"]},
+    "hall": {"Hall": ["__init__(self, town)", "town(self)", "deeds(self)", "row(self, word, stand)",
+                      "ring(self, word, stand)", "go(self, beats)", "carry(self, folk, spot)", "part(self, folk, word)",
+                      "unclose(self, folk)", "hook(self, word, other)", "close(self, word)", "drop(self, word)",
+                      "back(self)", "words(self)", "now(self)", "stand(self, word)", "folk_of(self, word)",
+                      "is_ring(self, word)", "far(self, word, beats)", "rest(self, word)", "first_at(self, folk, spot)",
+                      "first_meet(self, one, other)", "paper(self, folk, beats)", "was(self, folk, moment)",
+                      "bell(self, word, folk, sides)", "unbell(self, word)", "bells(self)", "rung(self, word)",
+                      "tolls(self, word, beats)"]},
 }
 
 

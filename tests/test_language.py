@@ -244,3 +244,20 @@ class Code(unittest.TestCase):
                     self.assertNotIn(ast.unparse(part.func.value), over, where)
                 if isinstance(part, ast.Subscript) and isinstance(part.ctx, (ast.Store, ast.Del)):
                     self.assertNotIn(ast.unparse(part.value), over, where)
+
+    def test_what_is_iterated_at_once_stands_where_it_may(self):
+        takers = ("list", "tuple", "dict", "sorted", "sum", "any", "all", "enumerate", "zip", "bytes", "min", "max",
+                  "combinations", "permutations")
+        for path, tree in TREES.items():
+            may = [node.iter for node in ast.walk(tree) if isinstance(node, (ast.For, ast.comprehension))]
+            may += [node.args[0] for node in ast.walk(tree) if is_call_of(node, *takers) and node.args]
+            may += [part for node in ast.walk(tree) if is_call_of(node, "zip") for part in node.args]
+            # A range may also be kept in a variable, or measured, or turned round.
+            ranges = [node.value for node in ast.walk(tree) if isinstance(node, ast.Assign)]
+            ranges += [node.args[0] for node in ast.walk(tree) if is_call_of(node, "len", "reversed") and node.args]
+            for node in ast.walk(tree):
+                if is_call_of(node, "range", "zip", "enumerate", "reversed"):
+                    self.assertIn(node, may + (ranges if node.func.id == "range" else []), (path, node.lineno))
+                if isinstance(node, ast.Call) and isinstance(node.func, ast.Attribute):
+                    if node.func.attr in ("items", "keys", "values"):
+                        self.assertIn(node, may, (path, node.lineno))
