@@ -1,12 +1,13 @@
 """Lines: rows and rings by where each three side by side are to meet; counted without listing, and told by numbers.
 
-Spots are taken by their numbers in the list of a town's spots. A row is walked with its ends twice (each is its own
+Spots are taken by their numbers in the list of a town's spots, two of them side by side as one number, a pair: the
+first one's times how many spots there are, and the second one's. A row is walked with its ends twice (each is its own
 neighbour), a ring until its first two come again: so each folk stands once amid three, and whether a line goes on hangs
-on its last two spots alone. A goal is the spot where the three amid whom a folk stands are to meet, None for its own.
+on its last pair alone. A goal is the spot where the three amid whom a folk stands are to meet, None for its own.
 """
 
 from meetrow.errors import NoNumber
-from meetrow.ways import meet
+from meetrow.masks import majority, number_of
 
 MOST_FOR_ROWS = 16
 MOST_FOR_RINGS = 8
@@ -17,95 +18,108 @@ def spots_for(town, ring):
     return town.spots_up_to(MOST_FOR_RINGS if ring else MOST_FOR_ROWS)
 
 
-def many_lines(spots, goals, ring):
-    """How many lines there are of a folk for each goal."""
-    return _many(_begun(_steps(spots), len(spots), _walked(goals, ring), ring))
+def in_walk(things, ring):
+    """What each folk has, in the order in which they stand amid three."""
+    return things[1:] + things[:1] if ring else things
 
 
-def line_at(spots, goals, number, ring):
-    """The line with a number, from 0, of all of them, rising; refused with NoNumber where there is none."""
+def walk_of(spots, goals, ring):
+    """Of each folk, as they stand amid three, by each last pair all pairs that may be next, rising."""
     steps = _steps(spots)
-    walked = _walked(goals, ring)
-    begun = _begun(steps, len(spots), walked, ring)
-    many = _many(begun)
-    if not 0 <= number < many:
-        raise NoNumber(many)
-    for start, tails in begun:
-        if number < _ways_on(tails[0], start):
-            break
-        number -= _ways_on(tails[0], start)
-    line = _line(steps, walked, start, tails, number)
-    return [spots[here] for here in (line[:-2] if ring else line[1:-1])]
+    onward = {}
+    for goal in goals:
+        if goal not in onward:
+            onward[goal] = _onward(steps, len(spots), goal)
+    return [onward[goal] for goal in in_walk(goals, ring)]
 
 
 def _steps(spots):
-    """By two spots side by side and where they meet with a third one, all third ones, rising."""
-    numbers = {spot: number for number, spot in enumerate(spots)}
+    """By a pair and where its two meet with a third spot, all pairs of the second and third one, rising."""
+    numbers = [number_of(spot) for spot in spots]
+    places = {number: place for place, number in enumerate(numbers)}
+    many = len(spots)
     steps = {}
-    for one, first in enumerate(spots):
-        for two, second in enumerate(spots):
-            for three, third in enumerate(spots):
-                key = (one, two, numbers[meet(first, second, third)])
-                steps.setdefault(key, []).append(three)
+    for one, first in enumerate(numbers):
+        for two, second in enumerate(numbers):
+            for three, third in enumerate(numbers):
+                key = (one * many + two, places[majority(first, second, third)])
+                steps.setdefault(key, []).append(two * many + three)
     return steps
 
 
-def _onward(steps, one, two, goal):
-    """All third ones behind two, by the goal of the second."""
-    return steps.get((one, two, two if goal is None else goal), [])
+def _onward(steps, many, goal):
+    """By each pair, of so many spots, all pairs that may be next, by the goal of its second spot."""
+    pairs = range(many * many)
+    return [steps.get((pair, int(pair) % many if goal is None else goal), []) for pair in pairs]
 
 
-def _walked(goals, ring):
-    """The goals in the order in which their folk stand amid three."""
-    return goals[1:] + goals[:1] if ring else goals
+def spots_in(spots, line, ring):
+    """The spots of the folk of a line, a list of the numbers of all spots where it is walked."""
+    return [spots[here] for here in (line[:-2] if ring else line[1:-1])]
 
 
-def _begun(steps, many, goals, ring):
-    """The first two places of each line, rising, beside the tails to where lines from there end."""
-    numbers = range(many)
-    if ring:
-        pairs = [(one, two) for one in numbers for two in numbers]
-        return [(pair, _tails(steps, goals, {pair: 1})) for pair in pairs]
-    ends = [(one, one) for one in numbers]
-    tails = _tails(steps, goals, {pair: 1 for pair in ends})
-    return [(pair, tails) for pair in ends]
+class Lines:
+    """All lines of a folk for each goal."""
 
+    def __init__(self, spots, goals, ring):
+        self._spots = spots
+        self._ring = ring
+        self._walk = walk_of(spots, goals, ring)
+        # Lines are counted by the pairs where they end, all at once: each such count has so many bits of one number.
+        self._width = len(spots).bit_length() * len(goals)
+        self._starts = self._starting(len(spots))
+        self._tails = self._counted(len(spots))
 
-def _tails(steps, goals, ends):
-    """From each goal on, by the two last spots, how many ways lead on to the ends; the ends themselves at the end."""
-    tails = [ends]
-    for goal in goals[::-1]:
-        tails.append(_tail_ahead(steps, goal, tails[-1]))
-    return tails[::-1]
+    def _starting(self, many):
+        """The pairs by which lines start, rising."""
+        return list(range(many * many)) if self._ring else [one * many + one for one in range(many)]
 
+    def _counted(self, many):
+        """From each folk on, by the last pair, how many ways lead on to the ends; those of the ends come last."""
+        ends = [0] * (many * many)
+        for pair in self._starts:
+            # A row may end by any spot twice, a ring by its own start alone.
+            ends[pair] = 1 << self._shift(pair)
+        tails = [ends]
+        for onward in self._walk[::-1]:
+            tail = tails[-1]
+            tails.append([sum([tail[pair] for pair in nexts]) for nexts in onward])
+        return tails[::-1]
 
-def _tail_ahead(steps, goal, tail):
-    """The tail from a goal on, by the tail behind it."""
-    ahead = {}
-    for (two, three), many in tail.items():
-        # Where three meet hangs on no order, so the first ones are found as the third ones are.
-        for one in _onward(steps, three, two, goal):
-            ahead[(one, two)] = many + _ways_on(ahead, (one, two))
-    return ahead
+    def _shift(self, start):
+        return self._width * start if self._ring else 0
 
+    def _ways(self, tail, start, pair):
+        """How many ways lead from a pair on to the ends of the lines with a start."""
+        return (tail[pair] >> self._shift(start)) & ((1 << self._width) - 1)
 
-def _ways_on(tail, pair):
-    return tail.get(pair, 0)
+    def how_many(self):
+        """How many lines there are."""
+        return sum([self._ways(self._tails[0], start, start) for start in self._starts])
 
-
-def _many(begun):
-    return sum([_ways_on(tails[0], start) for start, tails in begun])
-
-
-def _line(steps, goals, start, tails, number):
-    """The line with a number, from 0, of those from a start."""
-    line = list(start)
-    for goal, tail in zip(goals, tails[1:]):
-        one, two = line[-2:]
-        for three in _onward(steps, one, two, goal):
-            many = _ways_on(tail, (two, three))
-            if number < many:
-                line.append(three)
+    def line(self, number):
+        """The line with a number, from 0, of all of them, rising; refused with NoNumber where there is none."""
+        many = self.how_many()
+        if not 0 <= number < many:
+            raise NoNumber(many)
+        for start in self._starts:
+            ways = self._ways(self._tails[0], start, start)
+            if number < ways:
                 break
-            number -= many
-    return line
+            number -= ways
+        return spots_in(self._spots, self._walked(start, number), self._ring)
+
+    def _walked(self, start, number):
+        """The line with a number, from 0, of those with a start."""
+        spots = len(self._spots)
+        line = [start // spots, int(start) % spots]
+        pair = start
+        for onward, tail in zip(self._walk, self._tails[1:]):
+            for behind in onward[pair]:
+                ways = self._ways(tail, start, behind)
+                if number < ways:
+                    break
+                number -= ways
+            pair = behind
+            line.append(int(pair) % spots)
+        return line

@@ -1,7 +1,7 @@
 """Rests: the stands that a beat leaves as they are."""
 
 from meetrow.beats import beat
-from meetrow.lines import line_at, many_lines, spots_for
+from meetrow.lines import Lines, spots_for
 
 
 def is_at_rest(stand, *, ring=False):
@@ -11,9 +11,13 @@ def is_at_rest(stand, *, ring=False):
 
 def rests(town, folk, *, ring=False):
     """How many stands of so many folk are at rest."""
-    return many_lines(spots_for(town, ring), [None] * folk, ring)
+    return _resting(town, folk, ring).how_many()
 
 
 def rest_at(town, folk, number, *, ring=False):
     """The stand at rest with a number, from 0, of all of so many folk, rising."""
-    return line_at(spots_for(town, ring), [None] * folk, number, ring)
+    return _resting(town, folk, ring).line(number)
+
+
+def _resting(town, folk, ring):
+    return Lines(spots_for(town, ring), [None] * folk, ring)

@@ -17,7 +17,7 @@ def is_word(thing):
     parts = [(thing, 1)]
     while parts:
         part, within = parts.pop()
-        if _is_name(part):
+        if is_name(part):
             names[part] = True
         elif _is_meet(part) and within <= MOST_WITHIN and meets < MOST_MEETS:
             meets += 1
@@ -27,7 +27,8 @@ def is_word(thing):
     return len(names) <= MOST_NAMES
 
 
-def _is_name(thing):
+def is_name(thing):
+    """Whether anything is a text of one to eight small letters."""
     if not isinstance(thing, str) or not 1 <= len(thing) <= MOST_LETTERS:
         return False
     return all([_is_letter(sign) for sign in thing])

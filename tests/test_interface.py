@@ -29,6 +29,11 @@ FUNCTIONS = {
     "settings": ["closed(many, settings)", "plain_of(many, settings)", "unclosed(settings)"],
     "tallies": ["walked(stand, folk, beats, *, ring=False)", "comings(stand, folk, sides, beats, *, ring=False)",
                 "alike_from(stand, other, *, ring=False)"],
+    "counts": ["ways_many(town, one, other)", "way_at(town, one, other, number)"],
+    "mends": ["mend(town, stand, *, ring=False)"],
+    "texts": ["show_town(town)", "read_town(text)", "show_stand(stand, *, ring=False)", "read_stand(town, text)",
+              "show_hall(hall)", "read_hall(text)"],
+    "packs": ["pack(stand)", "unpack(town, folk, data)"],
     "befores": ["befores(town, stand, *, ring=False)", "before_at(town, stand, number, *, ring=False)"],
 }
 CLASSES = {

@@ -30,7 +30,7 @@ METHODS = set(
 DOUBLE = {"__init__", "__eq__", "__repr__", "__str__", "__len__"}
 STATEMENTS = (
     ast.FunctionDef, ast.ClassDef, ast.ImportFrom, ast.Assign, ast.AugAssign, ast.If, ast.While, ast.For, ast.Return,
-    ast.Break, ast.Continue, ast.Pass, ast.Raise, ast.Assert, ast.Delete, ast.Nonlocal, ast.Try, ast.Expr,
+    ast.Break, ast.Continue, ast.Pass, ast.Raise, ast.Assert, ast.Delete, ast.Nonlocal, ast.Try, ast.Expr, ast.Match,
 )
 BARRED_EXPRESSIONS = (
     ast.Await, ast.Yield, ast.YieldFrom, ast.Div, ast.MatMult, ast.Set, ast.NamedExpr, ast.AsyncFor, ast.Global,
