@@ -1,7 +1,7 @@
 """Bans, the roads by which one side leads to another, and the paper that nothing is let."""
 
-from meetrow.masks import bit, closure
-from meetrow.sides import is_side, is_whole, rising
+from meetrow.masks import bits_of, closure
+from meetrow.sides import are_sides, is_side, is_whole, rising
 
 MOST_CUTS = 60
 MOST_BANS = 2000
@@ -13,14 +13,11 @@ def are_bans(many, thing):
         return False
     if not isinstance(thing, list) or len(thing) > MOST_BANS:
         return False
-    return all([_is_ban(many, ban) for ban in thing])
-
-
-def _is_ban(many, thing):
-    if not isinstance(thing, tuple) or len(thing) != 2:
+    if not all([isinstance(ban, tuple) and len(ban) == 2 for ban in thing]):
         return False
-    one, other = thing
-    return is_side(many, one) and is_side(many, other) and abs(one) != abs(other)
+    if not are_sides(many, [side for ban in thing for side in ban]):
+        return False
+    return all([abs(one) != abs(other) for one, other in thing])
 
 
 def led(many, bans, side):
@@ -69,8 +66,9 @@ def _steps(bans):
 def nothing(many, bans):
     """The paper that nothing is let, or None where something is."""
     leads = closure(many, bans)
+    bits = bits_of(many)
     for cut in range(1, many + 1):
-        if leads[cut] & bit(-cut) and leads[-cut] & bit(cut):
+        if leads[cut] & bits[-cut] and leads[-cut] & bits[cut]:
             return (cut, tuple(road(many, bans, cut, -cut)), tuple(road(many, bans, -cut, cut)))
     return None
 

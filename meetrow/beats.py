@@ -1,6 +1,6 @@
 """Beats: where each of a row or ring goes, all at once, and where each stands behind any number of beats."""
 
-from meetrow.courses import course_of, courses_of, cut_bit, frees_of, threes
+from meetrow.courses import Chain, course_of, courses_of, cut_bit, threes
 from meetrow.ways import meet
 
 
@@ -16,7 +16,8 @@ def behind(stand, beats, *, ring=False):
 
 def held(stand, cut, *, ring=False):
     """The folk that are held at the cut, rising."""
-    return [folk for folk, free in enumerate(frees_of(stand, ring)) if not free & cut_bit(cut)]
+    chain = Chain(stand, ring)
+    return [folk for folk in range(len(stand)) if chain.is_held(folk, cut)]
 
 
 def rest(stand, *, ring=False):
@@ -33,7 +34,7 @@ def rest_of(courses):
 
 def first_at(stand, folk, spot, *, ring=False):
     """The first beat, from 0, behind which the folk stands at the spot, or None."""
-    return first_there(course_of(stand, frees_of(stand, ring), folk, ring), spot)
+    return first_there(course_of(stand, folk, ring), spot)
 
 
 def first_there(course, spot):
@@ -47,14 +48,13 @@ def first_there(course, spot):
 
 def first_meet(stand, one, other, *, ring=False):
     """The first beat, from 0, behind which the two folk stand at one spot, or None."""
-    courses = courses_of(stand, ring)
-    return first_same([courses[one]], [courses[other]])
+    chain = Chain(stand, ring)
+    return first_same(chain.course(one), chain.course(other))
 
 
-def first_same(courses, others):
-    """The first beat, from 0, behind which all of some courses are where the others are, or None."""
-    last = max([course.last_turn() for course in courses + others])
-    for beats in range(last + 2):
-        if all([one.number_behind(beats) == other.number_behind(beats) for one, other in zip(courses, others)]):
+def first_same(course, other):
+    """The first beat, from 0, behind which two folk, by their courses, stand at one spot, or None."""
+    for beats in range(max(course.last_turn(), other.last_turn()) + 2):
+        if course.number_behind(beats) == other.number_behind(beats):
             return beats
     return None

@@ -1,6 +1,5 @@
 """Books of deeds: a town as it is seen from one of its spots."""
 
-from meetrow.masks import mask_of
 from meetrow.sides import is_whole
 from meetrow.towns import Town
 
@@ -9,11 +8,12 @@ def book_of(town, spot):
     """The book of a town seen from a spot."""
     causes = []
     clashes = []
+    own = {side: True for side in spot}
     for deed, side in enumerate(spot, start=1):
-        others = [other for other in town.follows(-side) if abs(other) != deed]
         # Where a deed is done, another one is done, too, on a side that the spot hasn't; on the spot's own it is not.
-        causes.append(tuple([abs(other) for other in others if other not in spot]))
-        clashes.extend([(deed, abs(other)) for other in others if other in spot and abs(other) > deed])
+        follow = town.follows(-side)
+        causes.append(tuple([abs(other) for other in follow if other not in own and other != -side]))
+        clashes.extend([(deed, abs(other)) for other in follow if other in own and abs(other) > deed])
     return tuple(causes), tuple(clashes)
 
 
@@ -44,11 +44,12 @@ def _are_rising(things):
 
 def _is_whole_book(causes, clashes):
     """Whether all causes of causes are told and all clashes by causes, and none that would never be done."""
-    above = {deed: mask_of(told) for deed, told in enumerate(causes, start=1)}
-    against = {deed: mask_of([]) for deed in above}
+    # Sets of deeds as numbers, with a bit for each.
+    above = {deed: sum([1 << cause for cause in told]) for deed, told in enumerate(causes, start=1)}
+    against = {deed: 0 for deed in above}
     for one, other in clashes:
-        against[one] |= mask_of([other])
-        against[other] |= mask_of([one])
+        against[one] |= 1 << other
+        against[other] |= 1 << one
     for deed, told in enumerate(causes, start=1):
         if deed in told or above[deed] & against[deed]:
             return False
@@ -58,8 +59,8 @@ def _is_whole_book(causes, clashes):
     return True
 
 
-def _is_within(mask, other):
-    return mask | other == other
+def _is_within(deeds, others):
+    return deeds | others == others
 
 
 def town_of_book(book):

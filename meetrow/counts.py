@@ -46,18 +46,19 @@ def _ways_on(town, unlike):
     for _ in unlike:
         ahead = {}
         for done, many in behind.items():
-            for at, held_by in enumerate(holders):
+            for mine, held_by in holders:
                 # The last side that was come to is one that no other one there needs.
-                if done >> at & 1 and not held_by & done:
-                    ahead[done ^ 1 << at] = ahead.get(done ^ 1 << at, 0) + many
+                if done & mine and not done & held_by:
+                    ahead[done - mine] = ahead.get(done - mine, 0) + many
         ways = {**ways, **ahead}
         behind = ahead
     return ways
 
 
 def _holders(town, unlike):
-    """For each side the others, as a number, from which it follows: a way comes to these behind it."""
+    """For each side the set of it alone, and that of the others from which it follows: a way comes to these later."""
     follow = [town.follows(side) for side in unlike]
     return [
-        sum([1 << at for at, others in enumerate(follow) if unlike[at] != side and side in others]) for side in unlike
+        (1 << place, sum([1 << at for at, others in enumerate(follow) if at != place and side in others]))
+        for place, side in enumerate(unlike)
     ]

@@ -5,7 +5,7 @@ The mask of a cut is the bit that a spot as a whole number has for it. A folk is
 
 from meetrow.masks import number_of
 
-# All cuts: a mask of what stands nowhere, which holds nobody.
+# The mask of what stands nowhere: all cuts, as it holds nobody.
 ANY_CUT = -1
 
 
@@ -21,25 +21,13 @@ def threes(things, ring):
     return list(zip([first, *things[:-1]], things, [*things[1:], last]))
 
 
-def frees_of(stand, ring):
-    """Of each folk the mask of the cuts at which it is free."""
-    numbers = [number_of(spot) for spot in stand]
-    return [(before ^ here) & (here ^ after) for before, here, after in threes(numbers, ring)]
-
-
-def free_at(frees, place, ring):
-    """The mask of the one that stands at a place, in a ring counted round and round."""
-    if ring:
-        return frees[int(place) % len(frees)]
-    return frees[place] if 0 <= place < len(frees) else ANY_CUT
-
-
 class Course:
     """How a folk goes: by its spot, and by how many folk away the nearest is that is held at each cut."""
 
-    def __init__(self, spot, waits, loose):
+    def __init__(self, spot, number, waits, loose):
         self.spot = spot
-        # For 0, 1, 2 .. folk away the mask of the cuts at which the nearest is so far; none is empty at the end.
+        self._number = number
+        # For 0, 1, 2 .. folk away the mask of the cuts at which the nearest is so far; the last one is not empty.
         self.waits = waits
         # The mask of the cuts at which none is held.
         self.loose = loose
@@ -55,7 +43,7 @@ class Course:
         """The first beat from which on nothing changes but the cuts that go to and fro."""
         return max(len(self.waits) - 1, 0)
 
-    def turned(self, beats):
+    def _turned(self, beats):
         """The mask of the cuts of which the folk has its other side behind so many beats."""
         found = self.loose if beats & 1 else 0
         for step, mask in enumerate(self.waits):
@@ -65,31 +53,55 @@ class Course:
 
     def number_behind(self, beats):
         """The spot, as a number, behind so many beats."""
-        return number_of(self.spot) ^ self.turned(beats)
+        return self._number ^ self._turned(beats)
 
     def spot_behind(self, beats):
         """The spot behind so many beats."""
-        turned = self.turned(beats)
+        turned = self._turned(beats)
         return tuple([-side if turned >> at & 1 else side for at, side in enumerate(self.spot)])
 
 
-def course_of(stand, frees, folk, ring):
-    """The course of a folk."""
-    waits = []
-    loose = (1 << len(stand[folk])) - 1
-    # No one in a ring is farther away than half of it, and no one in a row farther from the next end.
-    for step in range(len(stand) // 2 + 1):
-        free = free_at(frees, folk - step, ring) & free_at(frees, folk + step, ring)
-        waits.append(loose & ~free)
-        loose &= free
-        if not loose:
-            break
-    while waits and not waits[-1]:
-        waits.pop()
-    return Course(stand[folk], waits, loose)
+class Chain:
+    """Folk hand in hand: a stand as a row or ring, and at which cuts each is free."""
+
+    def __init__(self, stand, ring):
+        self._stand = stand
+        self._is_round = ring
+        self._numbers = [number_of(spot) for spot in stand]
+        self._frees = [(before ^ here) & (here ^ after) for before, here, after in threes(self._numbers, ring)]
+
+    def free_at(self, place):
+        """The mask of the one that stands at a place, in a ring counted round and round."""
+        if self._is_round:
+            return self._frees[int(place) % len(self._frees)]
+        return self._frees[place] if 0 <= place < len(self._frees) else ANY_CUT
+
+    def is_held(self, place, cut):
+        """Whether one stands at a place and is held at the cut."""
+        return not self.free_at(place) & cut_bit(cut)
+
+    def course(self, folk):
+        """The course of a folk."""
+        waits = []
+        loose = (1 << len(self._stand[folk])) - 1
+        # No one in a ring is farther away than half of it, and no one in a row farther from the next end.
+        for step in range(len(self._stand) // 2 + 1):
+            free = self.free_at(folk - step) & self.free_at(folk + step)
+            waits.append(loose & ~free)
+            loose &= free
+            if not loose:
+                break
+        while waits and not waits[-1]:
+            waits.pop()
+        return Course(self._stand[folk], self._numbers[folk], waits, loose)
+
+
+def course_of(stand, folk, ring):
+    """The course of one folk."""
+    return Chain(stand, ring).course(folk)
 
 
 def courses_of(stand, ring):
     """The courses of all folk."""
-    frees = frees_of(stand, ring)
-    return [course_of(stand, frees, folk, ring) for folk in range(len(stand))]
+    chain = Chain(stand, ring)
+    return [chain.course(folk) for folk in range(len(stand))]

@@ -29,7 +29,7 @@ from meetrow.scenes import (
     with_comers,
     without,
 )
-from meetrow.sides import is_side, is_whole
+from meetrow.sides import are_sides, is_whole
 
 LEAST_RING = 3
 MOST_FOLK = 60
@@ -153,10 +153,11 @@ class Hall:
         last = self._row_by(other)
         if word == other:
             raise NoHands(first.folk[0])
-        others = {name: band for name, band in self._scene().bands.items() if name != other}
+        scene = self._scene()
+        bands = {name: band for name, band in scene.bands.items() if name != other}
         # A word that is there keeps its place.
-        others[word] = _joined(first, last)
-        self._do(("hook", word, other), with_bands(self._scene(), others))
+        bands[word] = _joined(first, last)
+        self._do(("hook", word, other), with_bands(scene, bands))
 
     def close(self, word):
         """A row is a ring."""
@@ -172,22 +173,24 @@ class Hall:
 
     def bell(self, word, folk, sides):
         """A bell is hung by which a folk's comings into a quarter ring."""
-        if word in self._scene().chimes:
+        scene = self._scene()
+        if word in scene.chimes:
             raise IsThere(word)
         self._refuse_no_folk(folk)
         if not self._are_sides(sides) or self._town.clash(sides) is not None:
             raise NoQuarter(0)
-        chime = Chime(folk, list(sides), 0)
-        self._do(("bell", word, folk, tuple(sides)), with_chimes(self._scene(), {**self._scene().chimes, word: chime}))
+        chimes = {**scene.chimes, word: Chime(folk, list(sides), 0)}
+        self._do(("bell", word, folk, tuple(sides)), with_chimes(scene, chimes))
 
     def _are_sides(self, thing):
-        return isinstance(thing, list) and all([is_side(len(self._town), side) for side in thing])
+        return isinstance(thing, list) and are_sides(len(self._town), thing)
 
     def unbell(self, word):
         """A bell is taken down."""
         self._chime(word)
-        left = {name: chime for name, chime in self._scene().chimes.items() if name != word}
-        self._do(("unbell", word), with_chimes(self._scene(), left))
+        scene = self._scene()
+        left = {name: chime for name, chime in scene.chimes.items() if name != word}
+        self._do(("unbell", word), with_chimes(scene, left))
 
     def back(self):
         """The last deed is undone."""
@@ -236,7 +239,7 @@ class Hall:
 
     def first_meet(self, one, other):
         """The first beat, counted from now, behind which two folk stand at one spot, or None."""
-        return first_same([self._course(one)], [self._course(other)])
+        return first_same(self._course(one), self._course(other))
 
     def _course(self, folk):
         """The course of a folk from now on, refused where it isn't there."""

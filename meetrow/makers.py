@@ -5,17 +5,16 @@ from meetrow.errors import TooMany
 from meetrow.plain import bans_of
 from meetrow.sides import side_of
 from meetrow.towns import MOST_SPOTS
+from meetrow.ways import crossed
 
 
 def tree(elders):
     """The tree in which a street leads to each spot from 1 on from its elder."""
     many = len(elders)
     _refuse_cuts(many)
-    # The cuts that one crosses from spot 0 to each spot.
-    crossings = [()]
+    spots = [tuple([-cut for cut in range(1, many + 1)])]
     for number, elder in enumerate(elders, start=1):
-        crossings.append(crossings[elder] + (number,))
-    spots = [tuple([side_of(cut, cut in told) for cut in range(1, many + 1)]) for told in crossings]
+        spots.append(crossed(spots[elder], number))
     return _made(many, spots)
 
 
@@ -23,8 +22,9 @@ def floor(wide, high):
     """The floor of so many streets wide and so many high."""
     _refuse_cuts(wide + high)
     _refuse_spots((wide + 1) * (high + 1))
-    spots = [_steps(wide, x) + _shifted(_steps(high, y), wide) for y in range(high + 1) for x in range(wide + 1)]
-    return _made(wide + high, spots)
+    firsts = [_steps(wide, x) for x in range(wide + 1)]
+    seconds = [_shifted(_steps(high, y), wide) for y in range(high + 1)]
+    return _made(wide + high, [one + two for two in seconds for one in firsts])
 
 
 def _steps(long, at):

@@ -3,26 +3,18 @@
 So all that one side leads to is kept, joined and compared at once.
 """
 
-from meetrow.sides import all_sides, place
+from meetrow.sides import all_sides
 
 
-def bit(side):
-    """The mask of one side alone."""
-    return 1 << place(side)
+def bits_of(many):
+    """For each side of so many cuts the mask of it alone."""
+    return {side: 1 << at for at, side in enumerate(all_sides(many))}
 
 
-def mask_of(sides):
-    """The mask of all these sides."""
-    mask = 0
-    for side in sides:
-        mask |= bit(side)
-    return mask
-
-
-def sides_in(mask):
-    """The sides of a mask, rising."""
-    cuts = range(1, (mask.bit_length() + 1) // 2 + 1)
-    return [side for cut in cuts for side in (cut, -cut) if mask & bit(side)]
+def sides_in(sides, mask):
+    """The sides of a mask, rising; all sides are handed in, rising."""
+    signs = f"{mask:b}"
+    return [side for side, sign in zip(sides, signs[::-1]) if sign == "1"]
 
 
 def number_of(spot):
@@ -37,13 +29,16 @@ def majority(one, two, three):
 
 def closure(many, bans):
     """For each side the mask of all sides to which it leads, itself too."""
-    sides = all_sides(many)
-    leads = {side: bit(side) for side in sides}
+    bits = bits_of(many)
+    leads = dict(bits)
+    strikes = {side: bits[-side] for side in bits}
     for one, other in bans:
-        leads[one] |= bit(-other)
-        leads[other] |= bit(-one)
-    for middle in sides:
-        for side in sides:
-            if leads[side] & bit(middle):
-                leads[side] |= leads[middle]
-    return leads
+        leads[one] |= strikes[other]
+        leads[other] |= strikes[one]
+    rows = list(leads.values())
+    for at, middle in enumerate(bits.values()):
+        onward = rows[at]
+        # What leads on to nothing else leads no one further.
+        if onward != middle:
+            rows = [row | onward if row & middle else row for row in rows]
+    return dict(zip(bits, rows))

@@ -22,12 +22,12 @@ def mend(town, stand, *, ring=False):
 
 def _least_round(walk, costs, many):
     """The least sum of a ring's line, and one with it."""
-    # What a start costs by itself: its first spot is that of the last one who stands amid three.
-    numbers = range(many)
-    starts = sorted([(costs[-1][one] + costs[0][two], one * many + two) for one in numbers for two in numbers])
+    starts = list(range(many * many))
+    # No line from a start has less than one that may end anywhere.
+    bounds = _sums(walk, costs, many, starts)[0]
     best = (FAR, [])
-    for start_sum, start in starts:
-        if start_sum >= best[0]:
+    for start in sorted(starts, key=lambda pair: bounds[pair]):
+        if bounds[start] >= best[0]:
             break
         total, line = _least(walk, costs, many, [start])
         if total < best[0]:

@@ -1,28 +1,23 @@
 """Papers: what shows, by the folk near by and without going there, where a folk stands behind so many beats."""
 
-from meetrow.courses import course_of, cut_bit, free_at, frees_of
+from meetrow.courses import Chain
 from meetrow.sides import is_whole
 from meetrow.ways import streets_at
 
 
 def paper(town, stand, folk, beats, *, ring=False):
     """The paper of a folk behind so many beats."""
-    frees = frees_of(stand, ring)
-    course = course_of(stand, frees, folk, ring)
+    chain = Chain(stand, ring)
+    course = chain.course(folk)
     cuts = streets_at(town, course.spot_behind(beats))
-    return tuple([(cut, *_word(frees, folk, course.away(cut), beats, cut, ring)) for cut in cuts])
+    return tuple([_entry(chain, folk, course.away(cut), beats, cut) for cut in cuts])
 
 
-def _word(frees, folk, away, beats, cut, ring):
-    """The word and the step that show the side of a cut."""
+def _entry(chain, folk, away, beats, cut):
+    """The entry of a cut, the nearest that is held there being so far away."""
     if away is None or away > beats:
-        return ("turns", 0)
-    return ("before" if _is_held(frees, folk - away, cut, ring) else "behind", away)
-
-
-def _is_held(frees, place, cut, ring):
-    """Whether one stands at a place and is held at the cut."""
-    return not free_at(frees, place, ring) & cut_bit(cut)
+        return (cut, "turns", 0)
+    return (cut, "before" if chain.is_held(folk - away, cut) else "behind", away)
 
 
 def is_paper(town, stand, folk, beats, spot, thing, *, ring=False):
@@ -30,13 +25,10 @@ def is_paper(town, stand, folk, beats, spot, thing, *, ring=False):
     cuts = streets_at(town, spot)
     if not isinstance(thing, tuple) or len(thing) != len(cuts):
         return False
-    frees = frees_of(stand, ring)
-    course = course_of(stand, frees, folk, ring)
+    chain = Chain(stand, ring)
+    course = chain.course(folk)
     for cut, entry in zip(cuts, thing):
-        if not _is_entry(cut, entry):
-            return False
-        _, word, step = entry
-        if not _is_so(frees, folk, course.away(cut), beats, entry, ring):
+        if not _is_entry(cut, entry) or not _is_so(chain, folk, course.away(cut), beats, entry):
             return False
         if _shown(stand, folk, beats, entry) != spot[cut - 1]:
             return False
@@ -51,16 +43,16 @@ def _is_entry(cut, thing):
     return is_whole(told) and told == cut and is_whole(step)
 
 
-def _is_so(frees, folk, away, beats, entry, ring):
-    """Whether an entry tells what is so, the nearest that is held being so far away."""
+def _is_so(chain, folk, away, beats, entry):
+    """Whether an entry tells what is so, the nearest that is held at its cut being so far away."""
     cut, word, step = entry
     if word == "turns":
         return step == 0 and (away is None or away >= beats)
     if away is None or step != away or step > beats:
         return False
     if word == "before":
-        return _is_held(frees, folk - step, cut, ring)
-    return word == "behind" and _is_held(frees, folk + step, cut, ring)
+        return chain.is_held(folk - step, cut)
+    return word == "behind" and chain.is_held(folk + step, cut)
 
 
 def _shown(stand, folk, beats, entry):

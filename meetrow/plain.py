@@ -3,7 +3,7 @@
 All of it hangs on what each side leads to, a mask for each: of bans by their roads, of spots by those that are on it.
 """
 
-from meetrow.masks import bit, closure
+from meetrow.masks import bits_of, closure
 from meetrow.sides import all_sides
 
 
@@ -18,18 +18,19 @@ def form_of(many, leads):
     if told is None:
         return None
     kept, table = told
-    return (len(kept), bans_led(leads, kept), tuple(table))
+    return (len(kept), bans_led(many, leads, kept), tuple(table))
 
 
 def table_of(many, leads):
     """The cuts that are kept and an entry for each cut, or None where nothing is let."""
     kept = []
     table = []
+    bits = bits_of(many)
     # Two sides lead to each other just where they lead to the same ones.
     entries = {}
     for cut in range(1, many + 1):
-        falls = bool(leads[cut] & bit(-cut))
-        rises = bool(leads[-cut] & bit(cut))
+        falls = bool(leads[cut] & bits[-cut])
+        rises = bool(leads[-cut] & bits[cut])
         if falls and rises:
             return None
         if not falls and not rises and leads[cut] not in entries:
@@ -40,10 +41,11 @@ def table_of(many, leads):
     return kept, table
 
 
-def bans_led(leads, kept):
+def bans_led(many, leads, kept):
     """All bans of two sides of the kept cuts, numbered anew, that no let setting has both, rising."""
     pairs = [pair for new, cut in enumerate(kept, start=1) for pair in ((new, cut), (-new, -cut))]
-    strikes = [(new, bit(-elder)) for new, elder in pairs]
+    bits = bits_of(many)
+    strikes = [(new, bits[-elder]) for new, elder in pairs]
     return [
         (one, other)
         for at, (one, elder) in enumerate(pairs)
@@ -54,7 +56,7 @@ def bans_led(leads, kept):
 
 def bans_of(many, spots):
     """The bans, in plain form, of the town that has just these spots."""
-    return bans_led(leads_on(many, spots), list(range(1, many + 1)))
+    return bans_led(many, leads_on(many, spots), list(range(1, many + 1)))
 
 
 def leads_on(many, spots):

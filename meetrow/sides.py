@@ -11,6 +11,12 @@ def is_side(many, thing):
     return is_whole(thing) and 1 <= abs(thing) <= many
 
 
+def are_sides(many, things):
+    """Whether all things of a list are sides of one of so many cuts."""
+    # Bans are asked for by thousands, so here the question is put without a call for each.
+    return all([isinstance(thing, int) and thing is not True and 1 <= abs(thing) <= many for thing in things])
+
+
 def all_sides(many):
     """All sides of so many cuts, rising."""
     return [side for cut in range(1, many + 1) for side in (cut, -cut)]

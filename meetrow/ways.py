@@ -23,12 +23,12 @@ def crossed(spot, cut):
 
 def streets_at(town, spot):
     """The cuts of the streets at a spot, rising."""
-    return [cut for cut in range(1, len(town) + 1) if town.is_spot(crossed(spot, cut))]
+    return town.cuts_at(spot)
 
 
 def way(town, one, other):
     """A shortest way from a spot to another one, a list of spots, both with it."""
-    unlike = [side for side in other if side not in one]
+    unlike = [side for side, beside in zip(other, one) if side != beside]
     spots = [one]
     # A side comes behind all that follow from it: fewer follow from each of these than from the side itself.
     for onward in sorted(unlike, key=lambda side: len(town.follows(side))):
