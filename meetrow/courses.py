@@ -5,9 +5,6 @@ The mask of a cut is the bit that a spot as a whole number has for it. A folk is
 
 from meetrow.masks import number_of
 
-# The mask of what stands nowhere: all cuts, as it holds nobody.
-ANY_CUT = -1
-
 
 def cut_bit(cut):
     """The mask of one cut alone."""
@@ -58,6 +55,8 @@ class Course:
     def spot_behind(self, beats):
         """The spot behind so many beats."""
         turned = self._turned(beats)
+        if not turned:
+            return self.spot
         return tuple([-side if turned >> at & 1 else side for at, side in enumerate(self.spot)])
 
 
@@ -66,19 +65,17 @@ class Chain:
 
     def __init__(self, stand, ring):
         self._stand = stand
-        self._is_round = ring
         self._numbers = [number_of(spot) for spot in stand]
         self._frees = [(before ^ here) & (here ^ after) for before, here, after in threes(self._numbers, ring)]
 
-    def free_at(self, place):
-        """The mask of the one that stands at a place, in a ring counted round and round."""
-        if self._is_round:
-            return self._frees[int(place) % len(self._frees)]
-        return self._frees[place] if 0 <= place < len(self._frees) else ANY_CUT
+    def _free_at(self, place):
+        """The mask of the one that stands at a place, counted round and round."""
+        # In a row an end is held at each cut, so one never asks for what would stand beyond it.
+        return self._frees[int(place) % len(self._frees)]
 
     def is_held(self, place, cut):
-        """Whether one stands at a place and is held at the cut."""
-        return not self.free_at(place) & cut_bit(cut)
+        """Whether the one at a place is held at the cut."""
+        return not self._free_at(place) & cut_bit(cut)
 
     def course(self, folk):
         """The course of a folk."""
@@ -86,7 +83,7 @@ class Chain:
         loose = (1 << len(self._stand[folk])) - 1
         # No one in a ring is farther away than half of it, and no one in a row farther from the next end.
         for step in range(len(self._stand) // 2 + 1):
-            free = self.free_at(folk - step) & self.free_at(folk + step)
+            free = self._free_at(folk - step) & self._free_at(folk + step)
             waits.append(loose & ~free)
             loose &= free
             if not loose:

@@ -22,7 +22,6 @@ from meetrow.scenes import (
     carried,
     empty_scene,
     gone_on,
-    tolls_of,
     with_band,
     with_bands,
     with_chimes,
@@ -30,6 +29,7 @@ from meetrow.scenes import (
     without,
 )
 from meetrow.sides import are_sides, is_whole
+from meetrow.tallies import comings_of
 
 LEAST_RING = 3
 MOST_FOLK = 60
@@ -225,7 +225,7 @@ class Hall:
 
     def far(self, word, beats):
         """Where the folk of a row or ring stand so many beats on, if nothing is done."""
-        return self._band(word).behind_beats(beats)
+        return [course.spot_behind(beats) for course in self._band(word).courses()]
 
     def rest(self, word):
         """From which beat on, counted from now, only some cuts change, and those cuts."""
@@ -276,7 +276,8 @@ class Hall:
 
     def tolls(self, word, beats):
         """How often a bell will ring in so many beats, if nothing is done."""
-        return tolls_of(self._scene(), self._chime(word), beats)
+        chime = self._chime(word)
+        return comings_of(self._course(chime.folk), chime.sides, beats)
 
 
 def _joined(first, last):

@@ -40,8 +40,6 @@ def _least(walk, costs, many, ends):
     tails = _sums(walk, costs, many, ends)
     total, pair = min([(tails[0][end], end) for end in ends])
     line = [pair // many, int(pair) % many]
-    if total >= FAR:
-        return total, line
     for onward, tail in zip(walk, tails[1:]):
         _, pair = min([(tail[behind], behind) for behind in onward[pair]])
         line.append(int(pair) % many)

@@ -3,7 +3,7 @@
 A scene is never changed, as deeds may be taken back: each deed tells a new one, which shares what the deed leaves.
 """
 
-from meetrow.courses import courses_of
+from meetrow.courses import course_of, courses_of
 from meetrow.quarters import has_sides
 from meetrow.tallies import comings_of
 
@@ -15,21 +15,14 @@ class Band:
         self.folk = folk
         self.places = places
         self.is_round = is_ring
-        self._courses = None
 
     def courses(self):
-        """The courses of the folk, told at the first asking and kept for the next ones."""
-        if self._courses is None:
-            self._courses = courses_of(self.places, self.is_round)
-        return self._courses
+        """The courses of all its folk."""
+        return courses_of(self.places, self.is_round)
 
     def course_of_folk(self, folk):
         """The course of the folk with a number."""
-        return self.courses()[self.folk.index(folk)]
-
-    def behind_beats(self, beats):
-        """The spots where the folk stand so many beats on."""
-        return [course.spot_behind(beats) for course in self.courses()]
+        return course_of(self.places, self.folk.index(folk), self.is_round)
 
     def cut_at(self, at):
         """Two rows: the first so many folk, and the others."""
@@ -109,14 +102,19 @@ def without(scene, word):
 
 def gone_on(scene, beats):
     """The scene so many beats on."""
-    bands = {word: Band(band.folk, band.behind_beats(beats), band.is_round) for word, band in scene.bands.items()}
-    chimes = {word: chime.rung_more(tolls_of(scene, chime, beats)) for word, chime in scene.chimes.items()}
+    courses = {}
+    for band in scene.bands.values():
+        for folk, course in zip(band.folk, band.courses()):
+            courses[folk] = course
+    bands = {
+        word: Band(band.folk, [courses[folk].spot_behind(beats) for folk in band.folk], band.is_round)
+        for word, band in scene.bands.items()
+    }
+    chimes = {
+        word: chime.rung_more(comings_of(courses[chime.folk], chime.sides, beats))
+        for word, chime in scene.chimes.items()
+    }
     return Scene(scene.moment + beats, scene.coming, bands, scene.came, chimes)
-
-
-def tolls_of(scene, chime, beats):
-    """How often a bell rings in so many beats."""
-    return comings_of(scene.course_of_folk(chime.folk), chime.sides, beats)
 
 
 def carried(scene, folk, spot):

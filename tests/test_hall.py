@@ -1,3 +1,4 @@
+import itertools
 import random
 import unittest
 
@@ -339,6 +340,33 @@ class Pasts(Case):
             hall.back()
         self.same(self.told(hall), ([], [], [], 0, []))
         self.refused(errors.NoDeed, {}, hall.back)
+
+
+class Meetings(Case):
+    def test_wherever_they_are(self):
+        hall = Hall(SQUARE)
+        hall.ring("a", [ONE, FOUR, ONE, FOUR])
+        hall.row("b", [FOUR, ONE, FOUR, ONE, TWO])
+        self.same([hall.first_meet(folk, 4) for folk in (0, 1, 2, 3)], [1, 0, 1, 0])
+        self.same([hall.first_meet(4, folk) for folk in (0, 1, 2, 3)], [1, 0, 1, 0])
+        slow = SlowHall(2, brute.settings(2))
+        slow.do("ring", "a", [ONE, FOUR, ONE, FOUR])
+        slow.do("row", "b", [FOUR, ONE, FOUR, ONE, TWO])
+        for one, other in itertools.product(range(9), repeat=2):
+            self.same(hall.first_meet(one, other), slow.first_meet(one, other))
+        hall.go(1)
+        # Beats are counted from now.
+        self.same([hall.first_meet(folk, 4) for folk in (0, 1)], [0, 1])
+
+    def test_first_at_is_counted_from_now(self):
+        hall = Hall(SQUARE)
+        hall.ring("a", [ONE, FOUR, ONE, FOUR])
+        self.same([hall.first_at(0, spot) for spot in (ONE, FOUR, TWO)], [0, 1, None])
+        hall.go(MOST + 1)
+        self.same([hall.first_at(0, spot) for spot in (ONE, FOUR, TWO)], [1, 0, None])
+        self.same(hall.rest("a"), (0, [1, 2]))
+        hall.unclose(3)
+        self.same(hall.rest("a"), (1, []))
 
 
 class Bells(Case):
